@@ -6,10 +6,18 @@ import inspect
 import unittest
 
 from streamstack.bags import Bag
+from streamstack.deals import DealDoor
 from streamstack.feeds import Feed, Follower
+from streamstack.groups import Group
+from streamstack.jobs import Job
+from streamstack.logs import Door, Log, Part, Producer
+from streamstack.mirrors import Mirror
 from streamstack.orders import Guess
 from streamstack.plans import Sources
+from streamstack.replicas import Copy, Replicas
 from streamstack.rows import ByteReader, Shape
+from streamstack.schemas import Registry, Schema
+from streamstack.times import Marks
 from streamstack.views import View
 
 FUNCTIONS = {
@@ -26,6 +34,18 @@ FUNCTIONS = {
     "feeds": [],
     "queries": ["tokens_of(text)", "parse_query(text)", "parse_term(text)"],
     "errors": [],
+    "moves": ["improved(plan, sources)", "moved(plan, sources)", "all_of(truth)"],
+    "logs": ["sum_of_bytes(data)", "record_bytes(key, row, time)", "read_records(data)"],
+    "replicas": [],
+    "mirrors": [],
+    "groups": ["shares_of(members, many, old=())"],
+    "times": [],
+    "deals": ["read_kept(part, end)"],
+    "schemas": [],
+    "jobs": ["inputs_of(step)", "check_spans(step)", "shape_of_each(step, inner)", "each_row(step, inner, row)",
+             "key_of(step, inner, row)", "total_row(step, inner, span, rows)", "whole(job, sources)",
+             "whole_each(step, inner, records)", "whole_totals(step, inner, records)", "spans_of(step, rows)",
+             "whole_meet(inner, gap)", "record_rank(record)"],
 }
 
 CLASSES = {
@@ -41,6 +61,31 @@ CLASSES = {
               "Follower": ["__init__(self)", "take(self, told)"]},
     "errors": {name: [] for name in ("StreamError", "RowError", "QueryError", "LogError", "GroupError", "JobError",
                                      "SnapshotError")},
+    "logs": {"Part": ["__init__(self)", "append(self, key, row, time)", "sync(self)", "end(self)", "crash(self, many)",
+                      "read(self, place, most)", "trim(self, place)"],
+             "Log": ["__init__(self, many)", "part_of(self, key)", "append(self, key, row, time)", "sync(self)",
+                     "latest(self)"],
+             "Producer": ["__init__(self, name)", "send(self, door, key, row, time)"],
+             "Door": ["__init__(self, log)", "take(self, name, number, key, row, time)"]},
+    "replicas": {"Copy": ["__init__(self)", "end_of(self, time)"],
+                 "Replicas": ["__init__(self, names, least)", "append(self, row)", "is_kept(self, place)",
+                              "pull(self, name, many)", "go_down(self, name)", "come_up(self, name)", "elect(self)",
+                              "drop_slow(self, name)", "read(self, name, place)"]},
+    "mirrors": {"Mirror": ["__init__(self, source, target, each=5)", "carry(self, part, many)",
+                           "place_there(self, part, place)", "end_there(self, part)", "lag(self, part)"]},
+    "groups": {"Group": ["__init__(self, many, length)", "join(self, name, time)", "leave(self, name, time)",
+                         "need(self, name, time)", "beat(self, name, time)", "look(self, time)",
+                         "note(self, name, generation, part, place, time)"]},
+    "times": {"Marks": ["__init__(self, names)", "tell(self, name, time)", "rest(self, name)", "time_now(self)"],
+              "Windows": ["__init__(self, length, step)", "around(self, time)"],
+              "Sessions": ["__init__(self, gap)", "joined(self, spans, time)"]},
+    "deals": {"DealDoor": ["__init__(self, log)", "enter(self, name)", "need(self, name, age)",
+                           "begin(self, name, age)", "add(self, name, age, key, row, time)", "commit(self, name, age)",
+                           "drop(self, name, age)", "end(self, name, word)", "firm_end(self, part)"]},
+    "schemas": {"Schema": ["__init__(self, columns, lacking=())", "reads(self, other)", "row_from(self, other, row)"],
+                "Registry": ["__init__(self)", "put_rule(self, subject, rule)", "fits(self, subject, schema)",
+                             "add(self, subject, schema)", "read(self, subject, number, row, wanted)"]},
+    "jobs": {"Job": ["__init__(self)", "add(self, name, step)", "readers(self, name)", "of_class(self, word)"]},
 }
 
 CONSTANTS = {
@@ -105,10 +150,53 @@ class Interface(unittest.TestCase):
         self.assertEqual((follower.number, follower.bag.weights), (0, {}))
         self.assertEqual(Guess({}, {}).values("s", "a"), 1)
 
+    def test_fields_of_logs_and_their_copies(self):
+        part = Part()
+        self.assertEqual((part.kept, part.waiting, part.records, part.first), ((), (), [], 0))
+        log = Log(2)
+        self.assertIsInstance(log.parts, list)
+        door = Door(log)
+        self.assertIs(door.log, log)
+        self.assertEqual(door.places, {})
+        producer = Producer("p")
+        self.assertEqual((producer.name, producer.next_number), ("p", 0))
+        self.assertIs(DealDoor(log).log, log)
+        mirror = Mirror(log, Log(2))
+        self.assertEqual((mirror.each, mirror.places), (5, [0, 0]))
+        copy = Copy()
+        self.assertEqual((copy.records, copy.firm, copy.is_up), ([], 0, True))
+        replicas = Replicas(("b", "a"), 1)
+        self.assertEqual((replicas.leader, replicas.time, replicas.keeping), ("b", 1, ["a", "b"]))
+        self.assertIsInstance(replicas.copies["a"], Copy)
+
+    def test_fields_of_groups_times_and_jobs(self):
+        group = Group(2, 3)
+        self.assertEqual((group.many, group.heard, group.shares, group.generation, group.places), (2, {}, {}, 0, {}))
+        self.assertEqual(Marks(("a",)).now, 0)
+        job = Job()
+        self.assertEqual((job.steps, job.shapes), ({}, {}))
+
     def test_functions_without_a_result_return_none(self):
         view = View(("source", "s"), Sources((("s", Shape((("a", "int"),))),)))
         self.assertIsNone(Bag().add((1,)))
         self.assertIsNone(Feed(view).change({}))
+        log = Log(1)
+        log.append((), (), 0)
+        self.assertEqual([log.sync(), log.parts[0].sync(), log.parts[0].crash(0)], [None] * 3)
+        replicas = Replicas(("a", "b"), 1)
+        replicas.append((1,))
+        self.assertEqual([replicas.drop_slow("b"), replicas.pull("b", 1), replicas.go_down("b"),
+                          replicas.come_up("b")], [None] * 4)
+        group = Group(2, 3)
+        group.join("a", 0)
+        self.assertEqual([group.need("a", 0), group.note("a", 1, 0, 1, 0), group.look(0), group.leave("a", 0)],
+                         [None] * 4)
+        door = DealDoor(log)
+        door.begin("p", door.enter("p"))
+        self.assertEqual([door.need("p", 1), door.drop("p", 1)], [None] * 2)
+        self.assertIsNone(Registry().put_rule("s", "free"))
+        self.assertTrue(Schema((("a", "int"),)).reads(Schema((("a", "int"),))))
+        self.assertIsNone(Job().add("s", ("source", Shape((("a", "int"),)))))
 
 
 if __name__ == "__main__":
