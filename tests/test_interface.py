@@ -17,6 +17,9 @@ from streamstack.plans import Sources
 from streamstack.replicas import Copy, Replicas
 from streamstack.rows import ByteReader, Shape
 from streamstack.schemas import Registry, Schema
+from streamstack.scripts import parse_job
+from streamstack.states import state_of
+from streamstack.stores import Cabinet, Run, Vault
 from streamstack.times import Marks
 from streamstack.views import View
 
@@ -46,7 +49,16 @@ FUNCTIONS = {
              "key_of(step, inner, row)", "total_row(step, inner, span, rows)", "whole(job, sources)",
              "whole_each(step, inner, records)", "whole_totals(step, inner, records)", "spans_of(step, rows)",
              "whole_meet(inner, gap)", "record_rank(record)"],
+    "scripts": ["parse_job(text)", "good_name(text)", "whole_number(text)", "parted(text, mark)", "parse_step(text)",
+                "parse_each(text)", "parse_totals(text)"],
+    "jobmoves": ["put_columns(term, columns)", "count_parts(term)", "used_steps(job)", "one_each(job, name)",
+                 "swapped(job, name)", "fewer_steps(job)", "moved_job(job)", "terms_use(job, name)"],
+    "stores": [],
+    "states": ["group_of(key)", "key_rank(key)", "span_rank(one)", "state_of(job, name)"],
 }
+
+STATE = ["__init__(self, step, shapes)", "take(self, place, record, mark)", "come(self, mark)", "shown(self)",
+         "put(self, told)"]
 
 CLASSES = {
     "rows": {"Shape": ["__init__(self, columns)", "place_of(self, name)", "kinds(self)", "check_row(self, row)"],
@@ -86,6 +98,12 @@ CLASSES = {
                 "Registry": ["__init__(self)", "put_rule(self, subject, rule)", "fits(self, subject, schema)",
                              "add(self, subject, schema)", "read(self, subject, number, row, wanted)"]},
     "jobs": {"Job": ["__init__(self)", "add(self, name, step)", "readers(self, name)", "of_class(self, word)"]},
+    "stores": {"Run": ["__init__(self, number, pairs)", "find(self, key)"],
+               "Cabinet": ["__init__(self)", "put(self, key, row)", "row_at(self, key)", "flush(self)", "join(self)",
+                           "rows(self)", "tell(self, known)"],
+               "Vault": ["__init__(self)", "known(self)", "keep(self, name, told)", "forget(self, name)",
+                         "restored(self, name)"]},
+    "states": {name: STATE for name in ("PlainState", "TotalState", "SessionState", "MeetState")},
 }
 
 CONSTANTS = {
@@ -95,6 +113,9 @@ CONSTANTS = {
     ("terms", "TESTS"): ("=", "<>", "<", "<=", ">", ">="),
     ("plans", "TOTALS"): ("count", "sum", "least", "greatest"),
     ("feeds", "MOST_KEPT"): 20,
+    ("stores", "MOST_RUNS"): 6,
+    ("stores", "MOST_MEMORY"): 8,
+    ("states", "GROUPS"): 32,
 }
 
 
@@ -176,6 +197,19 @@ class Interface(unittest.TestCase):
         job = Job()
         self.assertEqual((job.steps, job.shapes), ({}, {}))
 
+    def test_fields_of_stores_and_states(self):
+        cabinet, run = Cabinet(), Run(3, (((1,), None),))
+        self.assertEqual((cabinet.memory, cabinet.runs, cabinet.next_number), ({}, [], 0))
+        self.assertEqual((run.number, run.pairs), (3, (((1,), None),)))
+        self.assertEqual(Vault().runs, {})
+        job = parse_job("s = source a int\nr = source b int\ne = each of s\nt = total of s each 5 by 5 : count as n\n"
+                        "q = session of s within 5 : count as n\nm = meet of s and r within 5\no = sink of e")
+        for name in ("e", "t", "q", "m", "o"):
+            state = state_of(job, name)
+            self.assertIsInstance(state.shapes, list)
+            self.assertEqual((state.late, state.shown(), state.come(9)), (0, {}, []))
+        self.assertEqual(state_of(job, "m").sides, ({}, {}))
+
     def test_functions_without_a_result_return_none(self):
         view = View(("source", "s"), Sources((("s", Shape((("a", "int"),))),)))
         self.assertIsNone(Bag().add((1,)))
@@ -197,6 +231,9 @@ class Interface(unittest.TestCase):
         self.assertIsNone(Registry().put_rule("s", "free"))
         self.assertTrue(Schema((("a", "int"),)).reads(Schema((("a", "int"),))))
         self.assertIsNone(Job().add("s", ("source", Shape((("a", "int"),)))))
+        cabinet, vault = Cabinet(), Vault()
+        self.assertEqual([cabinet.put((1,), (2,)), cabinet.flush(), cabinet.join(), vault.keep("a", cabinet.tell(())),
+                          vault.forget("a")], [None] * 5)
 
 
 if __name__ == "__main__":
