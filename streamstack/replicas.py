@@ -103,7 +103,8 @@ class Replicas:
         """
         if name not in self.copies or not self.copies[name].is_up:
             raise LogError(f"{name} cannot go down")
-        self.copies[name].is_up = False
+        copy = self.copies[name]
+        copy.is_up = False
         if self.leader == name:
             self.leader = None
         if self.keeping != [name]:
@@ -114,7 +115,8 @@ class Replicas:
         """Let a copy come up again; raise LogError for one that is up or unknown."""
         if name not in self.copies or self.copies[name].is_up:
             raise LogError(f"{name} cannot come up")
-        self.copies[name].is_up = True
+        copy = self.copies[name]
+        copy.is_up = True
 
     def elect(self):
         """Let the first copy by name that keeps up and is up lead, in a new time, if nobody does; return who leads.

@@ -7,6 +7,7 @@ import unittest
 
 from streamstack.bags import Bag
 from streamstack.deals import DealDoor
+from streamstack.desk import Desk
 from streamstack.feeds import Feed, Follower
 from streamstack.groups import Group
 from streamstack.jobs import Job
@@ -16,11 +17,15 @@ from streamstack.orders import Guess
 from streamstack.plans import Sources
 from streamstack.replicas import Copy, Replicas
 from streamstack.rows import ByteReader, Shape
+from streamstack.running import Cluster, Reader, Task
 from streamstack.schemas import Registry, Schema
 from streamstack.scripts import parse_job
+from streamstack.sizing import Load, Machines
+from streamstack.snapshots import Snapshot, Store
 from streamstack.states import state_of
 from streamstack.stores import Cabinet, Run, Vault
 from streamstack.times import Marks
+from streamstack.upgrades import Upgrade
 from streamstack.views import View
 
 FUNCTIONS = {
@@ -55,6 +60,11 @@ FUNCTIONS = {
                  "swapped(job, name)", "fewer_steps(job)", "moved_job(job)", "terms_use(job, name)"],
     "stores": [],
     "states": ["group_of(key)", "key_rank(key)", "span_rank(one)", "state_of(job, name)"],
+    "snapshots": [],
+    "running": [],
+    "upgrades": [],
+    "sizing": ["rates_of(job, sources, loads)", "needed_tasks(job, sources, loads)"],
+    "desk": [],
 }
 
 STATE = ["__init__(self, step, shapes)", "take(self, place, record, mark)", "come(self, mark)", "shown(self)",
@@ -104,6 +114,23 @@ CLASSES = {
                "Vault": ["__init__(self)", "known(self)", "keep(self, name, told)", "forget(self, name)",
                          "restored(self, name)"]},
     "states": {name: STATE for name in ("PlainState", "TotalState", "SessionState", "MeetState")},
+    "snapshots": {"Snapshot": ["__init__(self, number)", "put_place(self, source, part, place, greatest)",
+                               "put_groups(self, name, groups)", "groups_of(self, name)"],
+                  "Store": ["__init__(self)", "begin(self, tasks)", "need(self, number, task)",
+                            "tell_places(self, number, task, places)", "tell_groups(self, number, task, groups)",
+                            "tell_given(self, number, task, records)", "drop(self)", "counts_of(self, sink)"]},
+    "running": {"Task": ["__init__(self, name, number, state)"],
+                "Reader": ["__init__(self, name, number, log, late)"],
+                "Cluster": ["__init__(self, job, logs, late=0, many=1)", "send(self, task, record)", "moves(self)",
+                            "act(self, choice)", "take(self, task, channel)", "begin_snapshot(self)",
+                            "crash(self, many=None)", "scale(self, many)", "read_places(self)", "finish(self)",
+                            "late_records(self)"]},
+    "upgrades": {"Upgrade": ["__init__(self, job, logs, late=0, many=1)", "begin(self, job)", "drop(self)",
+                             "act(self, choice)", "behind(self)", "switch(self)", "finish(self)"]},
+    "sizing": {"Load": ["__init__(self, most, gives=100)"],
+               "Machines": ["__init__(self, slots)", "used(self, machine)", "free(self)", "put(self, tasks)",
+                            "best_for(self, task)", "change(self, slots)"]},
+    "desk": {"Desk": ["__init__(self)", "enter(self, line)", "put(self, words)"]},
 }
 
 CONSTANTS = {
@@ -210,6 +237,26 @@ class Interface(unittest.TestCase):
             self.assertEqual((state.late, state.shown(), state.come(9)), (0, {}, []))
         self.assertEqual(state_of(job, "m").sides, ({}, {}))
 
+    def test_fields_of_what_runs(self):
+        job, log = parse_job("s = source a int\no = sink of s"), Log(2)
+        snapshot, store = Snapshot(5), Store()
+        self.assertEqual((snapshot.number, snapshot.places, snapshot.kept), (5, {}, {}))
+        self.assertEqual((store.last.number, store.under_way, store.counted), (0, None, []))
+        cluster = Cluster(job, {"s": log})
+        self.assertEqual((cluster.job, cluster.late, cluster.many), (job, 0, 1))
+        self.assertIsInstance(cluster.store, Store)
+        self.assertIsInstance(cluster.tasks[("s", 0)], Reader)
+        self.assertIsInstance(cluster.tasks[("o", 0)], Task)
+        reader, task = Reader("s", 1, log, 2), Task("o", 3, state_of(job, "o"))
+        self.assertEqual((reader.name, reader.number, reader.log, reader.late, reader.parts), ("s", 1, log, 2, {}))
+        self.assertEqual((task.name, task.number), ("o", 3))
+        upgrade = Upgrade(job, {"s": log})
+        self.assertEqual((upgrade.late, upgrade.many, upgrade.job, upgrade.live.job, upgrade.fresh),
+                         (0, 1, job, job, None))
+        load, machines, desk = Load(3), Machines({"m": 4}), Desk()
+        self.assertEqual((load.most, load.gives, machines.slots, machines.places), (3, 100, {"m": 4}, {}))
+        self.assertEqual((desk.job.steps, desk.views), ({}, {}))
+
     def test_functions_without_a_result_return_none(self):
         view = View(("source", "s"), Sources((("s", Shape((("a", "int"),))),)))
         self.assertIsNone(Bag().add((1,)))
@@ -234,6 +281,10 @@ class Interface(unittest.TestCase):
         cabinet, vault = Cabinet(), Vault()
         self.assertEqual([cabinet.put((1,), (2,)), cabinet.flush(), cabinet.join(), vault.keep("a", cabinet.tell(())),
                           vault.forget("a")], [None] * 5)
+        job, log = parse_job("s = source a int"), Log(1)
+        cluster, upgrade = Cluster(job, {"s": log}), Upgrade(job, {"s": log})
+        self.assertEqual([cluster.send(("s", 0), ((), (1,), 0)), cluster.crash(), upgrade.begin(job), upgrade.drop(),
+                          cluster.store.drop()], [None] * 5)
 
 
 if __name__ == "__main__":

@@ -140,6 +140,27 @@ class Language(unittest.TestCase):
                 self.assertEqual(own & set(methods), set(), (name, node.name))
                 self.assertEqual(len(set(methods)), len(methods), (name, node.name))
 
+    def test_l18_attributes_are_assigned_through_a_local_name(self):
+        self.places((name, node) for name, node in self.nodes if isinstance(node, ast.Attribute)
+                    and isinstance(node.ctx, ast.Store) and not isinstance(node.value, ast.Name))
+
+    def test_l23_what_a_loop_iterates_over_is_not_modified_in_it(self):
+        modifying = "append clear extend insert pop remove reverse setdefault update add discard put".split()
+        for name, loop in self.nodes:
+            if isinstance(loop, ast.For):
+                changed = set()
+                for node in ast.walk(ast.Module(loop.body, [])):
+                    if isinstance(node, ast.Call) and getattr(node.func, "attr", "") in modifying:
+                        changed.add(ast.unparse(node.func.value))
+                    elif isinstance(node, ast.Subscript) and not isinstance(node.ctx, ast.Load):
+                        changed.add(ast.unparse(node.value))
+                    elif isinstance(node, (ast.Attribute, ast.Name)) and isinstance(node.ctx, ast.Store):
+                        changed.add(ast.unparse(node))
+                read = {ast.unparse(node) for node in ast.walk(loop.iter) if isinstance(node, (ast.Attribute, ast.Name))
+                        and not ast.unparse(node) in ("self", "list", "range")}
+                if not ast.unparse(loop.iter).startswith(("list(", "sorted(")):
+                    self.assertEqual(read & changed, set(), (name, loop.lineno))
+
     def test_l8_builtins(self):
         for name, tree in self.trees.items():
             bound = bound_names(tree)

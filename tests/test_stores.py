@@ -243,6 +243,14 @@ class MadeAnew(unittest.TestCase):
         self.assertEqual(vault.restored("c").rows(), ((key(0), (0,)), (key(1), (1,)), (key(5), (5,))))
         self.assertEqual(vault.restored("a").next_number, 4)
 
+    def test_numbers_of_what_was_forgotten_do_not_come_again(self):
+        vault, cabinet = Vault(), with_runs(4)
+        told = cabinet.tell(())
+        vault.keep("a", told)
+        vault.forget("a")
+        vault.keep("b", ((1, 0), told[1]))
+        self.assertEqual((vault.known(), vault.restored("b").next_number), ((0, 1), 4))
+
     def test_each_is_its_own(self):
         vault, cabinet = Vault(), with_runs(2)
         vault.keep("a", cabinet.tell(()))
