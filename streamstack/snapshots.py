@@ -18,7 +18,8 @@ class Snapshot:
     def put_groups(self, name, groups):
         """Note what a task kept of its groups."""
         for group, told in groups.items():
-            self.kept[(name, group)] = told
+            # A list would stay its teller's to change; what a snapshot keeps does not change.
+            self.kept[(name, group)] = tuple(told)
 
     def groups_of(self, name):
         """Return a table of a step's groups to what was kept."""

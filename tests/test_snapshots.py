@@ -1,4 +1,4 @@
-"""[16]: snapshots told by tasks, given up, and what counts by them."""
+"""[16]: snapshots told by tasks, given up, and what counts by them; [21]: what a snapshot keeps is tuples."""
 
 import itertools
 import random
@@ -43,6 +43,25 @@ class Snapshots(unittest.TestCase):
         self.assertEqual(snapshot.groups_of("x"), {3: ("a",), 5: ("b",), 7: ("c",)})
         self.assertEqual((snapshot.groups_of("y"), snapshot.groups_of("z")), ({3: ("d",)}, {}))
 
+    def test_what_is_put_as_lists_is_kept_as_tuples(self):
+        snapshot = Snapshot(4)
+        self.assertIsNone(snapshot.put_groups("w", {3: ["a"], 4: ("b", "c"), 5: []}))
+        self.assertEqual(snapshot.kept, {("w", 3): ("a",), ("w", 4): ("b", "c"), ("w", 5): ()})
+        self.assertEqual(snapshot.groups_of("w"), {3: ("a",), 4: ("b", "c"), 5: ()})
+        snapshot.put_groups("w", {3: ["d", "e"]})
+        self.assertEqual(snapshot.groups_of("w"), {3: ("d", "e"), 4: ("b", "c"), 5: ()})
+
+    def test_what_its_teller_changes_later_is_kept_as_it_was(self):
+        snapshot, told = Snapshot(4), {3: ["a"], 4: []}
+        snapshot.put_groups("w", told)
+        told[3].append("b")
+        told[4].append("c")
+        told[5] = ["d"]
+        self.assertEqual(told, {3: ["a", "b"], 4: ["c"], 5: ["d"]})
+        self.assertEqual(snapshot.kept, {("w", 3): ("a",), ("w", 4): ()})
+        snapshot.groups_of("w")[3] = ("z",)
+        self.assertEqual(snapshot.groups_of("w"), {3: ("a",), 4: ()})
+
 
 class Stores(unittest.TestCase):
     def test_a_fresh_store(self):
@@ -85,6 +104,20 @@ class Stores(unittest.TestCase):
             with self.assertRaises(SnapshotError):
                 call()
             self.assertEqual(state(store), before)
+
+    def test_what_a_task_tells_as_lists_is_kept_as_tuples(self):
+        store, told = Store(), {0: [1, 0], 2: []}
+        number = store.begin([("w", 0), ("w", 1)])
+        self.assertIsNone(store.tell_groups(number, ("w", 0), told))
+        self.assertEqual(store.under_way.kept, {("w", 0): (1, 0), ("w", 2): ()})
+        told[0].append(7)
+        with self.assertRaises(SnapshotError):
+            store.tell_groups(number, ("w", 0), {0: [9], 1: [9]})
+        self.assertEqual(store.under_way.kept, {("w", 0): (1, 0), ("w", 2): ()})
+        store.tell_groups(number, ("w", 1), {31: (("k",), (5,))})
+        self.assertIsNone(store.under_way)
+        self.assertEqual(store.last.kept, {("w", 0): (1, 0), ("w", 2): (), ("w", 31): (("k",), (5,))})
+        self.assertEqual(store.last.groups_of("w"), {0: (1, 0), 2: (), 31: (("k",), (5,))})
 
     def test_told_twice_out_of_turn_and_for_another_number(self):
         store = Store()
